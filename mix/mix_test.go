@@ -147,14 +147,15 @@ func TestAboveNoSign(t *testing.T) {
 	}
 }
 
-// P1.2: of ranks that lie next to one another the greater one is above, even
-// where its key is the greater one too.
-func TestAboveNeighbours(t *testing.T) {
-	for _, from := range []uint64{0, 1<<32 - 50, 1<<63 - 50, math.MaxUint64 - 100} {
-		for rank := from; rank < from+100; rank++ {
-			low, high := keyOf(rank), keyOf(rank+1)
+// P1.2: of ranks with one bit between them the greater one is above, even where
+// its key is the greater one too.
+func TestAboveOneBit(t *testing.T) {
+	for bit := range 64 {
+		for _, key := range sample() {
+			rank := Prio(key)
+			low, high := keyOf(rank&^(1<<bit)), keyOf(rank|1<<bit)
 			if !Above(high, low) || Above(low, high) {
-				t.Errorf("%x is not above %x", rank+1, rank)
+				t.Errorf("rank %x: bit %d is not heeded", rank, bit)
 			}
 		}
 	}
