@@ -1,0 +1,39 @@
+// Package way: what the layers share that copy their way down a treap: a step
+// down, and the copy on the way back. It stands on node.
+package way
+
+import (
+	"osier/api"
+	"osier/arena"
+	"osier/node"
+)
+
+// IsTreap says whether t is nothing, or a node.
+func IsTreap(a *arena.Arena, t int) bool {
+	_, ok := node.Get(a, t)
+	return ok || a != nil && t == 0
+}
+
+// At is the node t, with 0 for what counts as nothing: a copy has a higher
+// number than t, and what hangs on it might count.
+func At(a *arena.Arena, t int) (node.Node, bool) {
+	n, ok := node.Get(a, t)
+	n.Left, n.Right = counted(a, t, n.Left), counted(a, t, n.Right)
+	return n, ok
+}
+
+// counted is what hangs on the node t, or 0, if that counts as nothing.
+func counted(a *arena.Arena, t, hung int) int {
+	if _, ok := node.Get(a, hung); ok && hung < t {
+		return hung
+	}
+	return 0
+}
+
+// Make is a node of these, unless an error befell what is to hang on it.
+func Make(a *arena.Arena, p api.Pair, left, right int, e api.Errno) (int, api.Errno) {
+	if e != api.OK {
+		return 0, e
+	}
+	return node.Make(a, p, left, right)
+}
