@@ -1,5 +1,5 @@
 // Package way: what the layers share that copy their way down a treap: a step
-// down, and the copy on the way back. It stands on node.
+// down, the copy on the way back, and the way that parts it. It stands on node.
 package way
 
 import (
@@ -36,4 +36,31 @@ func Make(a *arena.Arena, p api.Pair, left, right int, e api.Errno) (int, api.Er
 		return 0, e
 	}
 	return node.Make(a, p, left, right)
+}
+
+// Part is the treap of t's pairs below key, and that of the others. The way down
+// to key is copied, what hangs beside it goes to its side as it is.
+func Part(a *arena.Arena, t, key int) (int, int, api.Errno) {
+	left, right, e := parted(a, t, key)
+	if e != api.OK {
+		return 0, 0, e
+	}
+	return left, right, api.OK
+}
+
+// parted is Part, but beside an error one part may be told.
+func parted(a *arena.Arena, t, key int) (int, int, api.Errno) {
+	n, ok := At(a, t)
+	switch {
+	case !ok:
+		return 0, 0, api.OK
+	case n.Key < key:
+		left, right, e := parted(a, n.Right, key)
+		left, e = Make(a, n.Pair, n.Left, left, e)
+		return left, right, e
+	default:
+		left, right, e := parted(a, n.Left, key)
+		right, e = Make(a, n.Pair, right, n.Right, e)
+		return left, right, e
+	}
 }

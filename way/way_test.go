@@ -93,3 +93,58 @@ func TestMake(t *testing.T) {
 		t.Errorf("where there is no room: %d, %d", id, e)
 	}
 }
+
+// three is an arena with the nodes 10 (1), 30 (2) and 20 (3), on which those two
+// hang, and that much room left.
+func three(t *testing.T, room int) *arena.Arena {
+	t.Helper()
+	a := arena.New(3 + room)
+	for _, n := range [][3]int{{10, 0, 0}, {30, 0, 0}, {20, 1, 2}} {
+		if _, e := node.Make(a, api.Pair{Key: n[0]}, n[1], n[2]); e != api.OK {
+			t.Fatalf("%d: error %d", n[0], e)
+		}
+	}
+	return a
+}
+
+// sized is the key and the size of a treap's topmost node.
+func sized(a *arena.Arena, t int) [2]int {
+	n, _ := node.Get(a, t)
+	return [2]int{n.Key, n.Size}
+}
+
+// Both parts, on each way down; just the way is copied.
+func TestPart(t *testing.T) {
+	for _, x := range []struct {
+		key, takes  int
+		left, right [2]int
+	}{
+		{9, 2, [2]int{}, [2]int{20, 3}},
+		{10, 2, [2]int{}, [2]int{20, 3}},
+		{11, 2, [2]int{10, 1}, [2]int{20, 2}},
+		{20, 2, [2]int{10, 1}, [2]int{20, 2}},
+		{21, 2, [2]int{20, 2}, [2]int{30, 1}},
+		{30, 2, [2]int{20, 2}, [2]int{30, 1}},
+		{31, 2, [2]int{20, 3}, [2]int{}},
+	} {
+		a := three(t, x.takes)
+		left, right, e := Part(a, 3, x.key)
+		if e != api.OK || sized(a, left) != x.left || sized(a, right) != x.right || a.Room() != 0 {
+			t.Errorf("at %d: %v, %v, %d, room for %d", x.key, sized(a, left), sized(a, right), e, a.Room())
+		}
+	}
+}
+
+// Beside an error there is neither part, also where one was made already.
+func TestPartFull(t *testing.T) {
+	for key := 9; key < 32; key++ {
+		for room := range 2 {
+			if left, right, e := Part(three(t, room), 3, key); left != 0 || right != 0 || e != api.ErrFull {
+				t.Errorf("at %d with room for %d: %d, %d, %d", key, room, left, right, e)
+			}
+		}
+	}
+	if left, right, e := Part(arena.New(0), 0, 5); left != 0 || right != 0 || e != api.OK {
+		t.Errorf("nothing: %d, %d, %d", left, right, e)
+	}
+}
