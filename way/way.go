@@ -1,10 +1,12 @@
 // Package way: what the layers share that copy their way down a treap: a step
-// down, the copy on the way back, and the way that parts it. It stands on node.
+// down, the copy on the way back, the way that parts it, and the ways that join
+// two. It stands on mix and node.
 package way
 
 import (
 	"osier/api"
 	"osier/arena"
+	"osier/mix"
 	"osier/node"
 )
 
@@ -62,5 +64,25 @@ func parted(a *arena.Arena, t, key int) (int, int, api.Errno) {
 		left, right, e := parted(a, n.Left, key)
 		right, e = Make(a, n.Pair, right, n.Right, e)
 		return left, right, e
+	}
+}
+
+// Join is the treap of l's pairs and r's, whose keys are above those of l. The
+// ways down that face one another are copied, till one of them ends: what
+// hangs there on the other one stays as it is.
+func Join(a *arena.Arena, l, r int) (int, api.Errno) {
+	m, okLeft := At(a, l)
+	n, okRight := At(a, r)
+	switch {
+	case !okLeft:
+		return r, api.OK
+	case !okRight:
+		return l, api.OK
+	case mix.Above(m.Key, n.Key):
+		right, e := Join(a, m.Right, r)
+		return Make(a, m.Pair, m.Left, right, e)
+	default:
+		left, e := Join(a, l, n.Left)
+		return Make(a, n.Pair, left, n.Right, e)
 	}
 }

@@ -148,3 +148,23 @@ func TestPartFull(t *testing.T) {
 		t.Errorf("nothing: %d, %d, %d", left, right, e)
 	}
 }
+
+// Both sides' ways are copied till one ends, whichever of both keys is above;
+// nothing joined to a treap is that treap.
+func TestJoin(t *testing.T) {
+	a := three(t, 2)
+	if id, e := Join(a, 1, 2); e != api.OK || sized(a, id)[1] != 2 || a.Used() != 4 {
+		t.Errorf("10 and 30: %v, %d, %d records", sized(a, id), e, a.Used())
+	}
+	for _, x := range [][3]int{{0, 0, 0}, {3, 0, 3}, {0, 3, 3}} {
+		if id, e := Join(a, x[0], x[1]); id != x[2] || e != api.OK || a.Used() != 4 {
+			t.Errorf("%d and %d: %d, %d", x[0], x[1], id, e)
+		}
+	}
+	if id, e := node.Make(a, api.Pair{Key: 40}, 0, 0); id != 5 || e != api.OK {
+		t.Fatalf("40: %d, %d", id, e)
+	}
+	if id, e := Join(a, 3, 5); id != 0 || e != api.ErrFull {
+		t.Errorf("where there is no room: %d, %d", id, e)
+	}
+}
