@@ -1,6 +1,6 @@
-// Package way: what the layers share that copy their way down a treap: a step
-// down, the copy on the way back, the way that parts it, and the ways that join
-// two. It stands on mix and node.
+// Package way: what the layers share that go down a treap: a step down, the copy
+// on the way back, the way that parts it, and the ways that join two. It stands
+// on mix and node.
 package way
 
 import (
